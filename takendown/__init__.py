@@ -1,0 +1,1 @@
+"""Devices whose works start one another, taken down by a row of steps."""

@@ -1,0 +1,229 @@
+"""Those rules of the language subset that a look at the code can tell, and the shape of the interface."""
+
+import ast
+import builtins
+import importlib
+import inspect
+import pathlib
+import unittest
+import warnings
+
+PACKAGE = pathlib.Path(__file__).resolve().parent.parent / "takendown"
+FILES = sorted(PACKAGE.glob("*.py"))
+
+USED_BUILTINS = set(
+    "len range enumerate zip min max sum abs sorted reversed int str bool bytes list tuple dict set isinstance ord repr "
+    "any all divmod iter next map property staticmethod classmethod super NotImplemented Exception ValueError TypeError "
+    "KeyError IndexError LookupError ZeroDivisionError ArithmeticError OverflowError RuntimeError "
+    "NotImplementedError".split())
+
+VALUE_METHODS = set(
+    "append clear copy count endswith extend find get index insert isalnum isalpha isdigit islower isspace isupper items "
+    "join keys ljust lower lstrip partition pop remove replace reverse rfind rjust rpartition rsplit rstrip setdefault "
+    "split splitlines startswith strip update upper values zfill bit_length add discard".split())
+
+CLASS_METHODS = set(
+    "__init__ __eq__ __len__ __enter__ __exit__ __call__ __iter__ __add__ __radd__ __contains__ __getitem__ "
+    "__setitem__".split())
+
+NO_NODES = (ast.Global, ast.AsyncFunctionDef, ast.AsyncFor, ast.AsyncWith, ast.Await, ast.AnnAssign, ast.Div, ast.Try)
+NO_WORDS = set(
+    "type typing enum Enum Flag Generic Protocol ABC namedtuple dataclass overload contextmanager abstractmethod register "
+    "mro elements open input law eval exec getattr setattr hasattr delattr globals locals vars dir id chr frozenset "
+    "__class__ __name__ __slots__".split())
+
+# The files, classes and functions of the interface, as far as they have landed
+INTERFACE = {
+    "items": ({}, "is_name is_item is_body is_step may_start"),
+    "bodies": ({"Body": "code size item nexts held flags locks works __len__ __eq__"}, "order"),
+    "threads": ({"Work": "label kind __eq__", "Guest": "label kind __eq__", "Crowd": "label kind __eq__", "Gated": "gate"},
+                ""),
+    "devices": ({"Device": "works guests crowds threads flags locks gates armed flagged __getitem__ __contains__ __len__ "
+                 "users_of starters __eq__"}, ""),
+    "rows": ({"Row": "shut locked __add__ __radd__ __contains__ __getitem__ __iter__ __len__ __eq__ steps begins without "
+              "held names"}, "fits"),
+    "states": ({}, "first_state is_state is_quiet held_by"),
+}
+
+SIGNATURES = {
+    "items.is_name": "(value)", "items.is_item": "(value)", "items.is_body": "(value)", "items.is_step": "(value)",
+    "items.may_start": "(items)", "bodies.Body": "(items)", "bodies.order": "(items)",
+    "bodies.Body.item": "(self, place)", "bodies.Body.nexts": "(self, place)", "bodies.Body.held": "(self, place)",
+    "threads.Work": "(name, items)", "threads.Guest": "(name, gate, items)", "threads.Crowd": "(name, gate, items)",
+    "devices.Device": "(works, guests=None, crowds=None, *, armed=(), flags=())",
+    "devices.Device.users_of": "(self, gate)", "devices.Device.starters": "(self, work)",
+    "rows.Row": "(*steps)", "rows.Row.shut": "(work)", "rows.Row.locked": "(lock, *steps)",
+    "rows.Row.begins": "(self, other)", "rows.Row.without": "(self, index)", "rows.Row.held": "(self, done)",
+    "rows.Row.names": "(self, kind)", "rows.fits": "(device, row)", "states.first_state": "(device, row)",
+    "states.is_state": "(device, row, value)", "states.is_quiet": "(device, row, state)",
+    "states.held_by": "(device, row, state)",
+}
+
+
+def trees():
+    """Yield (file name, text, tree) for each file of the package."""
+    for path in FILES:
+        text = path.read_text(encoding="ascii")
+        yield path.name, text, ast.parse(text)
+
+
+def functions(tree):
+    return [node for node in ast.walk(tree) if isinstance(node, (ast.FunctionDef, ast.Lambda))]
+
+
+def parameters(function):
+    told = function.args
+    named = told.posonlyargs + told.args + told.kwonlyargs + [told.vararg, told.kwarg]
+    return [one.arg for one in named if one is not None]
+
+
+def bound_locally(tree):
+    """Return the names of all parameters and of all variables assigned in functions."""
+    found = set()
+    for function in functions(tree):
+        found.update(parameters(function))
+        found.update(node.id for node in ast.walk(function)
+                     if isinstance(node, ast.Name) and isinstance(node.ctx, ast.Store))
+        found.update(node.name for node in ast.walk(function) if isinstance(node, ast.ExceptHandler) and node.name)
+    return found
+
+
+def own_methods():
+    return {function.name for _, _, tree in trees() for function in functions(tree)
+            if isinstance(function, ast.FunctionDef)}
+
+
+class TestRules(unittest.TestCase):
+    def test_files(self):
+        self.assertEqual([path.name for path in sorted(PACKAGE.iterdir()) if path.name != "__pycache__"],
+                         [path.name for path in FILES])
+        self.assertIn("__init__.py", [path.name for path in FILES])
+
+    def test_sizes_and_characters(self):
+        for name, text, tree in trees():
+            self.assertLess(text.count("\n"), 400, name)
+            self.assertTrue(all(" " <= sign <= "~" or sign == "\n" for sign in text), name)
+            self.assertTrue(all(len(line) <= 120 for line in text.split("\n")), name)
+            for function in functions(tree):
+                self.assertLessEqual(function.end_lineno - function.lineno, 39, (name, function.lineno))
+
+    def test_no_warnings(self):
+        for name, text, _ in trees():
+            with warnings.catch_warnings():
+                warnings.simplefilter("error")
+                compile(text, name, "exec")
+
+    def test_nodes(self):
+        for name, _, tree in trees():
+            for node in ast.walk(tree):
+                if isinstance(node, ast.Try):
+                    caught = {one.type.id for one in node.handlers}
+                    self.assertFalse(caught & set(dir(builtins)), (name, node.lineno))
+                else:
+                    self.assertNotIsInstance(node, NO_NODES, name)
+                if isinstance(node, ast.Constant):
+                    self.assertNotIsInstance(node.value, (float, complex), (name, node.lineno))
+                    self.assertNotIn("%", str(node.value), (name, node.lineno))
+                if isinstance(node, ast.Compare) and isinstance(node.ops[0], (ast.Is, ast.IsNot)):
+                    self.assertIsInstance(node.comparators[0], ast.Constant, (name, node.lineno))
+                if isinstance(node, ast.FunctionDef):
+                    decorators = [one.id for one in node.decorator_list]
+                    self.assertLessEqual(set(decorators), {"property", "staticmethod", "classmethod"})
+
+    def test_module_level(self):
+        for name, _, tree in trees():
+            for node in tree.body:
+                docstring = isinstance(node, ast.Expr) and isinstance(node.value, ast.Constant)
+                plain = isinstance(node, (ast.ImportFrom, ast.FunctionDef, ast.ClassDef, ast.Assign))
+                self.assertTrue(docstring or plain, (name, node.lineno))
+
+    def test_imports(self):
+        for name, _, tree in trees():
+            for node in ast.walk(tree):
+                self.assertNotIsInstance(node, ast.Import, name)
+                if isinstance(node, ast.ImportFrom):
+                    package, module = node.module.split(".")
+                    self.assertEqual((package, node.level), ("takendown", 0), name)
+                    defining = ast.parse((PACKAGE / (module + ".py")).read_text())
+                    defined = {one.name for one in defining.body if isinstance(one, (ast.FunctionDef, ast.ClassDef))}
+                    defined |= {one.targets[0].id for one in defining.body if isinstance(one, ast.Assign)}
+                    used = {one.id for one in ast.walk(tree) if isinstance(one, ast.Name)}
+                    for one in node.names:
+                        self.assertIn(one.name, defined, name)
+                        self.assertIsNone(one.asname, name)
+                        self.assertIn(one.name, used, name)
+
+    def test_names(self):
+        for name, _, tree in trees():
+            bound = {node.name for node in ast.walk(tree) if isinstance(node, ast.ClassDef)}
+            bound |= {one.name for node in ast.walk(tree) if isinstance(node, ast.ImportFrom) for one in node.names}
+            self.assertFalse(bound & bound_locally(tree), name)
+            self.assertFalse((bound | bound_locally(tree)) & set(dir(builtins)), name)
+            read = {node.id for node in ast.walk(tree) if isinstance(node, ast.Name) and isinstance(node.ctx, ast.Load)}
+            self.assertLessEqual(read & set(dir(builtins)), USED_BUILTINS, name)
+
+    def test_words(self):
+        for name, _, tree in trees():
+            for node in ast.walk(tree):
+                for word in (getattr(node, "id", None), getattr(node, "attr", None), getattr(node, "arg", None),
+                             getattr(node, "name", None)):
+                    if word in ("__class__", "__name__"):
+                        self.assertIsInstance(node, ast.Attribute, name)
+                    else:
+                        self.assertNotIn(word, NO_WORDS, (name, word))
+
+    def test_calls(self):
+        for name, _, tree in trees():
+            for node in ast.walk(tree):
+                if not isinstance(node, ast.Call):
+                    continue
+                if isinstance(node.func, ast.Attribute):
+                    self.assertIn(node.func.attr, VALUE_METHODS | own_methods(), (name, node.lineno))
+                elif node.func.id in ("any", "all", "sum", "min", "max", "sorted"):
+                    self.assertFalse([one for one in node.args if isinstance(one, ast.GeneratorExp)], (name, node.lineno))
+
+    def test_methods(self):
+        for name, _, tree in trees():
+            for node in ast.walk(tree):
+                if isinstance(node, ast.ClassDef):
+                    methods = [one.name for one in node.body if isinstance(one, ast.FunctionDef)]
+                    self.assertEqual(len(methods), len(set(methods)), (name, node.name))
+                    special = {method for method in methods if method.startswith("__")}
+                    self.assertLessEqual(special, CLASS_METHODS, (name, node.name))
+                    if "__getitem__" in methods:
+                        self.assertIn("__iter__", methods, (name, node.name))
+
+
+class TestInterface(unittest.TestCase):
+    def test_defined_where_it_is_listed(self):
+        for module, (classes, names) in INTERFACE.items():
+            loaded = importlib.import_module("takendown." + module)
+            for name in list(classes) + names.split():
+                self.assertEqual(getattr(loaded, name).__module__, "takendown." + module)
+            for name, methods in classes.items():
+                for method in methods.split():
+                    self.assertIn(method, vars(getattr(loaded, name)), (module, name))
+
+    def test_parameters(self):
+        for path, told in SIGNATURES.items():
+            module, *names = path.split(".")
+            thing = importlib.import_module("takendown." + module)
+            for name in names:
+                thing = getattr(thing, name)
+            self.assertEqual(str(inspect.signature(thing)), told, path)
+
+    def test_properties_and_static_methods(self):
+        from takendown.bodies import Body
+        from takendown.devices import Device
+        from takendown.rows import Row
+        from takendown.threads import Crowd, Gated, Guest, Work
+        for kind, names in ((Body, "code size"), (Work, "label"), (Guest, "label"), (Crowd, "label"), (Gated, "gate"),
+                            (Device, "armed flagged")):
+            for name in names.split():
+                self.assertIsInstance(vars(kind)[name], property)
+        for name in ("shut", "locked"):
+            self.assertIsInstance(vars(Row)[name], staticmethod)
+
+
+if __name__ == "__main__":
+    unittest.main()
