@@ -3,6 +3,7 @@
 from takendown.bodies import are_alike
 from takendown.errors import InvalidDevice, InvalidItem, UnknownName
 from takendown.items import is_name, may_start
+from takendown.schemes import Scheme
 from takendown.threads import Crowd, Guest, Work
 
 MOST_WORKS = 4
@@ -100,6 +101,7 @@ class Device:
             raise InvalidDevice("locks", None)
         self._armed = tuple(sorted(armed))
         self._flagged = tuple(sorted(flags))
+        self._scheme = Scheme(self)
 
     @property
     def armed(self):
@@ -163,6 +165,10 @@ class Device:
         if not is_name(gate) or gate not in self.gates():
             raise UnknownName(gate)
         return [name for name in sorted(self._guests + self._crowds) if self._threads[name].gate == gate]
+
+    def scheme(self):
+        """Return how states are written as integers."""
+        return self._scheme
 
     def starters(self, work):
         """Return the ascending list of the threads that may start a work."""

@@ -43,6 +43,10 @@ INTERFACE = {
     "rows": ({"Row": "shut locked __add__ __radd__ __contains__ __getitem__ __iter__ __len__ __eq__ steps begins without "
               "held names"}, "fits"),
     "states": ({}, "first_state is_state is_quiet held_by"),
+    "moves": ({}, "moves after is_run end_of"),
+    "machines": ({"Machine": "__call__ moves state counts made freed inside most touches copy attempt back"}, "play"),
+    "tables": ({"Table": "states __contains__ __len__ depth run loud waiting"}, "is_closed runs"),
+    "users": ({"CountedTable": "states __contains__ __len__ loud"}, "fewest_users is_closed_for counted"),
 }
 
 SIGNATURES = {
@@ -56,7 +60,16 @@ SIGNATURES = {
     "rows.Row.begins": "(self, other)", "rows.Row.without": "(self, index)", "rows.Row.held": "(self, done)",
     "rows.Row.names": "(self, kind)", "rows.fits": "(device, row)", "states.first_state": "(device, row)",
     "states.is_state": "(device, row, value)", "states.is_quiet": "(device, row, state)",
-    "states.held_by": "(device, row, state)",
+    "states.held_by": "(device, row, state)", "moves.moves": "(device, row, state)",
+    "moves.after": "(device, row, state, move)", "moves.is_run": "(device, row, value)",
+    "moves.end_of": "(device, row, run)", "machines.Machine": "(device, row)",
+    "machines.Machine.__call__": "(self, move)", "machines.Machine.counts": "(self, crowd)",
+    "machines.Machine.attempt": "(self, visitor)", "machines.play": "(device, row, chosen)",
+    "tables.Table": "(device, row, *, limit=6000)", "tables.Table.depth": "(self, state)",
+    "tables.Table.run": "(self, state)", "tables.is_closed": "(device, row, value)",
+    "tables.runs": "(device, row, most)", "users.CountedTable": "(device, row, most, *, limit=6000)",
+    "users.fewest_users": "(device, row, *, limit=6000)", "users.is_closed_for": "(device, row, most, value)",
+    "users.counted": "(device, row, run)",
 }
 
 
@@ -215,10 +228,11 @@ class TestInterface(unittest.TestCase):
     def test_properties_and_static_methods(self):
         from takendown.bodies import Body
         from takendown.devices import Device
+        from takendown.machines import Machine
         from takendown.rows import Row
         from takendown.threads import Crowd, Gated, Guest, Work
         for kind, names in ((Body, "code size"), (Work, "label"), (Guest, "label"), (Crowd, "label"), (Gated, "gate"),
-                            (Device, "armed flagged")):
+                            (Device, "armed flagged"), (Machine, "freed inside most touches")):
             for name in names.split():
                 self.assertIsInstance(vars(kind)[name], property)
         for name in ("shut", "locked"):

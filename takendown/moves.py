@@ -1,0 +1,52 @@
+"""Moves: what is possible in a state, what is behind it, and runs of moves from the first state on."""
+
+from takendown.courses import Course, is_move
+from takendown.errors import InvalidMove
+from takendown.states import check_state
+
+
+def moves(device, row, state):
+    """Return the list of all possible moves of a state."""
+    check_state(device, row, state)
+    course = Course(device, row)
+    return [move for move, _ in course.onward(course.code_of(state))]
+
+
+def after(device, row, state, move):
+    """Return the state behind a move."""
+    check_state(device, row, state)
+    course = Course(device, row)
+    return course.state_of(code_behind(course, course.code_of(state), move))
+
+
+def is_run(device, row, value):
+    """Return whether any value is a run."""
+    try:
+        codes_along(Course(device, row), value)
+    except InvalidMove:
+        return False
+    return True
+
+
+def end_of(device, row, run):
+    """Return the state to which a run leads."""
+    course = Course(device, row)
+    return course.state_of(codes_along(course, run)[-1])
+
+
+def code_behind(course, code, move):
+    """Return the code behind any value that should be a possible move."""
+    ahead = course.behind(code, move) if is_move(move) else None
+    if ahead is None:
+        raise InvalidMove(move)
+    return ahead
+
+
+def codes_along(course, run):
+    """Return the list of the codes ahead of all moves of any value that should be a run, and behind the last one."""
+    if not isinstance(run, list):
+        raise InvalidMove(run)
+    codes = [course.first()]
+    for move in run:
+        codes.append(code_behind(course, codes[-1], move))
+    return codes

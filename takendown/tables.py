@@ -1,0 +1,83 @@
+"""Tables: all states to which runs lead before the free, and the loud runs among them."""
+
+from takendown.courses import Course
+from takendown.errors import InvalidState
+from takendown.rows import fits
+from takendown.searches import Search, are_closed, check_limit
+from takendown.states import has_form, is_torn
+
+
+class Table:
+    """All states of a device and a row before the free. It never changes."""
+
+    def __init__(self, device, row, *, limit=6000):
+        fits(device, row)
+        check_limit(limit)
+        self._device = device
+        self._row = row
+        self._course = Course(device, row)
+        self._search = Search(self._course, limit)
+
+    def __contains__(self, x):
+        return has_form(self._device, self._row, x) and self._course.code_of(x) in self._search
+
+    def __len__(self):
+        return len(self._search)
+
+    def states(self):
+        """Return the list of the states."""
+        return [self._course.state_of(code) for code in self._search.codes()]
+
+    def depth(self, state):
+        """Return the fewest moves of a run that leads to a state."""
+        return self._search.depth(self._code_in(state))
+
+    def run(self, state):
+        """Return a run with the fewest moves that leads to a state."""
+        return self._search.run(self._code_in(state))
+
+    def _code_in(self, state):
+        """Return the code of any value that should be a state of the table."""
+        if state not in self:
+            raise InvalidState(state)
+        return self._course.code_of(state)
+
+    def loud(self):
+        """Return a loud run with the fewest moves, or None."""
+        return self._search.loud()
+
+    def waiting(self):
+        """Return the list of the states in which neither the row's step nor the free is possible."""
+        course = self._course
+        return [course.state_of(code) for code in self._search.codes() if not course.may_step(code)]
+
+
+def is_closed(device, row, value):
+    """Return whether any value is a closed list of states, none of them about to be freed and not quiet."""
+    fits(device, row)
+    if not isinstance(value, list):
+        return False
+    if not all([has_form(device, row, one) and not is_torn(device, row, one) for one in value]):
+        return False
+    course = Course(device, row)
+    return are_closed(course, [course.code_of(one) for one in value])
+
+
+def runs(device, row, most):
+    """Yield all runs of at most so many moves, none freeing the device amid, the shorter ones first."""
+    course = Course(device, row)
+    level = [([], course.first())]
+    length = 0
+    while length <= most and len(level) > 0:
+        for run, _ in level:
+            yield list(run)
+        length += 1
+        level = longer_by_one(course, level) if length <= most else []
+
+
+def longer_by_one(course, level):
+    """Return the list of all tuples (run, code behind it) that are one move longer than those of a list."""
+    return [
+        (run + [move], ahead) for run, code in level if not course.is_freed(code)
+        for move, ahead in course.onward(code)
+    ]
