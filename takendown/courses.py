@@ -133,9 +133,13 @@ class Course:
         """Return whether the state of a code is quiet."""
         return code & self._asked == self._gates
 
+    def is_last(self, code):
+        """Return whether all steps are done, and the device is not freed."""
+        return self.done(code) == len(self._row)
+
     def is_loud(self, code):
-        """Return whether all steps are done, the device is not freed, and the state is not quiet."""
-        return self.done(code) == len(self._row) and not self.is_quiet(code)
+        """Return whether the free is next, and the state is not quiet."""
+        return self.is_last(code) and not self.is_quiet(code)
 
     def may_step(self, code):
         """Return whether the row's step, or the free, is possible."""

@@ -42,11 +42,16 @@ def code_behind(course, code, move):
     return ahead
 
 
+def codes_from(course, code, chosen):
+    """Return the list of the codes ahead of all moves of a list, from a code on, and behind the last one."""
+    codes = [code]
+    for move in chosen:
+        codes.append(code_behind(course, codes[-1], move))
+    return codes
+
+
 def codes_along(course, run):
     """Return the list of the codes ahead of all moves of any value that should be a run, and behind the last one."""
     if not isinstance(run, list):
         raise InvalidMove(run)
-    codes = [course.first()]
-    for move in run:
-        codes.append(code_behind(course, codes[-1], move))
-    return codes
+    return codes_from(course, course.first(), run)

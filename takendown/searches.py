@@ -13,6 +13,12 @@ def check_limit(value):
         raise InvalidNumber(value)
 
 
+def checked_search(course, limit):
+    """Return the search of a course with any value as its limit."""
+    check_limit(limit)
+    return Search(course, limit)
+
+
 class Search:
     """The codes of a course, each with a shortest way to it. Raises LimitExceeded if there are more than limit."""
 

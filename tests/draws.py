@@ -112,9 +112,20 @@ def careful_row(source, device):
     return Row(*steps[:8])
 
 
-def draws(seed, many):
-    """Yield many pairs of a device and a row, half of the rows careful ones."""
+def patient_row(source, device):
+    """Return a row that waits for works and gates, perhaps while it holds a lock: often one that waits for ever."""
+    steps = [("settle", work) for work in device.works()] + [("drain", gate) for gate in device.gates()]
+    steps += [("close", gate) for gate in device.gates() if source.random() < 0.5]
+    source.shuffle(steps)
+    if device.locks() and source.random() < 0.5:
+        lock = source.choice(device.locks())
+        steps = [("take", lock), *steps[:5], ("give", lock)]
+    return Row(*steps[:8])
+
+
+def draws(seed, many, rows=(drawn_row, careful_row)):
+    """Yield many pairs of a device and a row, the rows of some kinds in turn."""
     source = random.Random(seed)
     for number in range(many):
         device = drawn_device(source)
-        yield device, (careful_row if number % 2 else drawn_row)(source, device)
+        yield device, rows[number % len(rows)](source, device)

@@ -47,6 +47,10 @@ INTERFACE = {
     "machines": ({"Machine": "__call__ moves state counts made freed inside most touches copy attempt back"}, "play"),
     "tables": ({"Table": "states __contains__ __len__ depth run loud waiting"}, "is_closed runs"),
     "users": ({"CountedTable": "states __contains__ __len__ loud"}, "fewest_users is_closed_for counted"),
+    "waits": ({}, "movers mover_of waiting_run is_round is_waiting is_dead"),
+    "endings": ({}, "ending_of is_ending parts"),
+    "verdicts": ({}, "verdict is_verdict is_right unlike"),
+    "shorts": ({}, "arrows lock_pairs lock_order short_paper is_short left_alone"),
 }
 
 SIGNATURES = {
@@ -69,7 +73,15 @@ SIGNATURES = {
     "tables.Table.run": "(self, state)", "tables.is_closed": "(device, row, value)",
     "tables.runs": "(device, row, most)", "users.CountedTable": "(device, row, most, *, limit=6000)",
     "users.fewest_users": "(device, row, *, limit=6000)", "users.is_closed_for": "(device, row, most, value)",
-    "users.counted": "(device, row, run)",
+    "users.counted": "(device, row, run)", "waits.movers": "(device, row, state)", "waits.mover_of": "(move)",
+    "waits.waiting_run": "(device, row, *, limit=6000)", "waits.is_round": "(device, row, state, value)",
+    "waits.is_waiting": "(device, row, value)", "waits.is_dead": "(device, row, state)",
+    "endings.ending_of": "(device, row, *, limit=6000)", "endings.is_ending": "(device, row, states, value)",
+    "endings.parts": "(device, row, states, spent)", "verdicts.verdict": "(device, row, *, limit=6000)",
+    "verdicts.is_verdict": "(device, row, value)", "verdicts.is_right": "(device, row, *, limit=6000)",
+    "verdicts.unlike": "(device, row, other, *, limit=6000)", "shorts.arrows": "(device)",
+    "shorts.lock_pairs": "(device, row)", "shorts.lock_order": "(device, row)", "shorts.short_paper": "(device, row)",
+    "shorts.is_short": "(device, row, value)", "shorts.left_alone": "(device, row, ends, index, work)",
 }
 
 
@@ -132,6 +144,9 @@ class TestRules(unittest.TestCase):
                 if isinstance(node, ast.Try):
                     caught = {one.type.id for one in node.handlers}
                     self.assertFalse(caught & set(dir(builtins)), (name, node.lineno))
+                    for one in node.finalbody:
+                        self.assertIsInstance(one, ast.Assign, (name, node.lineno))
+                        self.assertIsInstance(one.value, ast.Name, (name, node.lineno))
                 else:
                     self.assertNotIsInstance(node, NO_NODES, name)
                 if isinstance(node, ast.Constant):
@@ -186,14 +201,36 @@ class TestRules(unittest.TestCase):
                         self.assertNotIn(word, NO_WORDS, (name, word))
 
     def test_calls(self):
+        methods = VALUE_METHODS | own_methods()
         for name, _, tree in trees():
             for node in ast.walk(tree):
                 if not isinstance(node, ast.Call):
                     continue
                 if isinstance(node.func, ast.Attribute):
-                    self.assertIn(node.func.attr, VALUE_METHODS | own_methods(), (name, node.lineno))
+                    self.assertIn(node.func.attr, methods, (name, node.lineno))
                 elif node.func.id in ("any", "all", "sum", "min", "max", "sorted"):
                     self.assertFalse([one for one in node.args if isinstance(one, ast.GeneratorExp)], (name, node.lineno))
+
+    def test_properties(self):
+        found = {True: set(), False: set()}
+        for _, _, tree in trees():
+            for node in ast.walk(tree):
+                if isinstance(node, ast.ClassDef):
+                    for one in node.body:
+                        if isinstance(one, ast.FunctionDef):
+                            found["property" in [told.id for told in one.decorator_list]].add(one.name)
+        assigned = {node.attr for _, _, tree in trees() for node in ast.walk(tree)
+                    if isinstance(node, ast.Attribute) and isinstance(node.ctx, ast.Store)}
+        self.assertFalse(found[True] & (found[False] | assigned))
+
+    def test_generators(self):
+        makers = [node.name for _, _, tree in trees() for node in functions(tree)
+                  if any(isinstance(one, (ast.Yield, ast.YieldFrom)) for one in ast.walk(node))]
+        names = [node.name for _, _, tree in trees() for node in functions(tree) if isinstance(node, ast.FunctionDef)]
+        for maker in makers:
+            self.assertEqual(names.count(maker), 1, maker)
+            for _, _, tree in trees():
+                self.assertNotIn(maker, bound_locally(tree))
 
     def test_methods(self):
         for name, _, tree in trees():
