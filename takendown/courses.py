@@ -69,11 +69,8 @@ class Course:
         self._asked = self._gates | inside | works
 
     def first(self):
-        """Return the code of the first state."""
-        works, flags, guests, crowds, done = first_state(self._device, self._row)
-        if self._users is not None:
-            crowds = tuple([(0,) * len(self._device[name]) for name in self._device.crowds()])
-        return self.code_of((works, flags, guests, crowds, done))
+        """Return the code of the first state, in which nobody is anywhere, counted or not."""
+        return self.code_of(first_state(self._device, self._row))
 
     def code_of(self, state):
         """Return the code of a state."""

@@ -1,6 +1,6 @@
 """Short papers: an order of the locks, and an end for each work, that are enough for a row to be right."""
 
-from takendown.errors import InvalidNumber, UnknownName
+from takendown.errors import InvalidNumber
 from takendown.items import is_index, is_name
 from takendown.rows import fits
 
@@ -123,13 +123,11 @@ def left_alone(device, row, ends, index, work):
     fits(device, row)
     if not is_index(index, len(row)):
         raise InvalidNumber(index)
-    if not is_name(work) or work not in device.works():
-        raise UnknownName(work)
     return is_alone(device, row, ends, index, work)
 
 
 def is_alone(device, row, ends, index, work):
-    """Whether nobody but a work itself may start it behind a step."""
+    """Whether a work is left alone at a step; raises UnknownName for any value that is no work."""
     end_by_work = dict(zip(device.works(), ends))
     for thread in device.starters(work):
         if thread in end_by_work:

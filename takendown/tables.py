@@ -68,7 +68,7 @@ def runs(device, row, most):
     course = Course(device, row)
     level = [([], course.first())]
     length = 0
-    while length <= most and len(level) > 0:
+    while len(level) > 0:
         for run, _ in level:
             yield list(run)
         length += 1

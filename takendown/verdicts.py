@@ -5,8 +5,7 @@ from takendown.endings import is_ending
 from takendown.errors import InvalidMove
 from takendown.knots import judged, paper_of_states
 from takendown.moves import codes_along
-from takendown.rows import fits
-from takendown.searches import check_limit, checked_search
+from takendown.searches import checked_search
 from takendown.tables import is_closed
 from takendown.waits import is_waiting
 
@@ -56,9 +55,6 @@ def is_loud_run(course, value):
 
 def unlike(device, row, other, *, limit=6000):
     """Return None if two rows lead to the same ends and wait alike, otherwise what one of them alone does."""
-    fits(device, row)
-    fits(device, other)
-    check_limit(limit)
     courses = [Course(device, row), Course(device, other)]
     searches = [checked_search(course, limit) for course in courses]
     ends = [ends_in(course, search) for course, search in zip(courses, searches)]

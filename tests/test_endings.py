@@ -181,12 +181,26 @@ class TestIsEnding(Papers):
                ("moves", "w", 0), ("left", "c", 0, 0), ("left", "c", False), ("left", "c", True), ("moves", ("c", False)),
                ("moves", ("c", True)), ("moves", ["c", 0]), ("moves", None), ("moves", EqualToAll()), (None,),
                (None, "w"), ("left", "c", None), ("left", None, 0), ("moves", ("c",)), ("moves", ()), ("stays", "w"),
-               ("left", "c", -1), ("moves", ("c", -1)), False, 0]
+               ("left", "c", -1), ("moves", ("c", -1)), False, 0, ("stays", "c", 0), ("moves", "c", 0),
+               ("left", EqualToAll(), 0), ("moves", (EqualToAll(), 0)), (EqualToAll(), "w"), (EqualToAll(), "c", 0)]
         for at, (states, reason, inner) in enumerate(self.PAPER):
             for other in reasons + bad + strange_values():
                 value = self.PAPER[:at] + [(states, other, inner)] + self.PAPER[at + 1:]
                 right = False if repr(other) in list(map(repr, bad)) else None
                 self.check(self.DEVICE, self.ROW, self.STATES, value, right)
+
+    def test_places_that_are_bools(self):
+        device = Device({"w": (USE,), "v": (("start", "v"),)}, crowds={"c": ("d", (USE, USE))}, armed=("v",))
+        row = Row(("close", "d"), ("drain", "d"))
+        states = Table(device, row).states()
+        paper = ending_of(device, row)
+        self.check(device, row, states, paper, True)
+        for place, other in ((0, False), (1, True)):
+            for word in ("moves", "left"):
+                bent, many = with_bools(paper, word, place, other)
+                self.assertGreater(many, 0)
+                self.check(device, row, states, bent, False)
+                self.check(device, row, states, with_bools(paper, word, place, place)[0], True)
 
     def test_inner_papers_for_other_states(self):
         inners = [inner for _, _, inner in self.PAPER] + [self.PAPER]
@@ -294,6 +308,19 @@ def walk(paper):
     for part in paper:
         yield part
         yield from walk(part[2])
+
+
+def with_bools(paper, word, place, other):
+    """Return a paper with another value for a place in reasons with a word, and in how many."""
+    found, many = [], 0
+    for states, reason, inner in paper:
+        if reason in (("left", "c", place), ("moves", ("c", place))) and reason[0] == word:
+            many += 1
+            reason = (word, "c", other) if word == "left" else (word, ("c", other))
+        inner, more = with_bools(inner, word, place, other)
+        found.append((states, reason, inner))
+        many += more
+    return found, many
 
 
 def bend(source, device, paper):

@@ -97,7 +97,7 @@ class TestMachine(unittest.TestCase):
         before = told(machine, "bc")
         refused = [move for move in STRANGE_MOVES if move != ("pass", "c", 0, 0)] + strange_values() + [
             ("come", "c"), ("enter", "g"), ("step",), ("go", "v", 0), ("begin", "w"), ("go", "w", True),
-            ("pass", "c", 1, 0), ("pass", "c", 5, 0), ("pass", "c", 0, 0, False), ("pass", "c", 0, 0, True),
+            ("pass", "c", 1, 0), ("pass", "c", 4, 0), ("pass", "b", 2, 0), ("pass", "c", 7, 0), ("pass", "c", 0, 0, False), ("pass", "c", 0, 0, True),
             ("pass", "b", 0, 0), ("pass", "x", 0, 0), ("pass", "c", False, 0), ("pass", "c", 0, True),
             ["pass", "c", 0, 0], ("pass", "c", 0), ("pass", "c", 0, 2), ("pass", ["c"], 0, 0), ("pass", "w", 0, 0)]
         for move in refused:

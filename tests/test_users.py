@@ -1,5 +1,6 @@
 import random
 import unittest
+import unittest.mock
 
 from draws import DEVICE, ROW, USE, draws
 from slow import (sets_of, slow_counted_moves, slow_counted_first, slow_counted_table, slow_is_quiet, slow_loud_length,
@@ -184,6 +185,14 @@ class TestFewestUsers(unittest.TestCase):
             fewest_users(device, row, limit=many)
         self.assertEqual(caught.exception.limit, many)
 
+    def test_not_enough_users(self):
+        with unittest.mock.patch("takendown.users.MOST_USERS", 1):
+            with self.assertRaises(LimitExceeded) as caught:
+                fewest_users(TWO, TWO_ROW, limit=50000)
+            self.assertEqual(caught.exception.limit, 50000)
+        with unittest.mock.patch("takendown.users.MOST_USERS", 2):
+            self.assertEqual(fewest_users(TWO, TWO_ROW, limit=50000)[0], 2)
+
     def test_draws(self):
         found = {}
         for device, row in draws(62, 120):
@@ -315,6 +324,8 @@ class TestCounted(unittest.TestCase):
         run = [("come", "c"), ("pass", "c", 0, 0, False)] * 30
         told = counted(device, Row(), run)
         self.assertEqual(told, [move[:4] for move in run])
+        run = run + [("come", "c")] * 5
+        self.assertEqual(counted(device, Row(), run), [move[:4] for move in run])
 
     def test_invalid_moves(self):
         run = [("come", "c"), ("step",), ("pass", "c", 0, 0, True)]

@@ -13,7 +13,7 @@ from takendown.verdicts import is_right, is_verdict, unlike, verdict
 from takendown.waits import is_waiting, waiting_run
 from test_tables import NO_LIMITS, WRONG_NAMES
 from test_waits import CROSSED, CROSSED_ROW, CROWD, KINDS, SELF, SETTLE
-from values import strange_values
+from values import EqualToAll, strange_values
 
 OFF = (False, None)
 GOOD = Row(("close", "d"), ("drain", "d"), ("halt", "w"))
@@ -104,6 +104,8 @@ class TestIsVerdict(unittest.TestCase):
                       ("loud", longer[1:]), ("loud", [None]), ("loud", None), ("Loud", longer), ("right", longer),
                       ("waits", longer), ("waits", longer, []), ("right", longer, [])]:
             self.check(CROWD, Row(), value)
+        for word in (EqualToAll(), "Loud", None, b"loud"):
+            self.check(CROWD, Row(), (word, run))
         quiet = [("step",)] * 4
         self.assertIs(is_run(CROWD, GOOD, quiet), True)
         self.check(CROWD, GOOD, ("loud", quiet))
@@ -125,6 +127,7 @@ class TestIsVerdict(unittest.TestCase):
         self.check(CROWD, GOOD, (word, states[::-1], paper), True)
         for value in [(word, states[1:], paper), (word, tuple(states), paper), (word, states, paper[1:]),
                       (word, states, tuple(paper)), (word, states, None), [word, states, paper], (word, states),
+                      ("wrong", states, paper), (None, states, paper), (EqualToAll(), states, paper),
                       (word, states, paper, []), ("waits", states, paper), ("loud", states), (word, states + [None], paper),
                       (word, None, paper), (word, [], []), (word, states + states[:1], paper), (word, paper, states)]:
             self.check(CROWD, GOOD, value)
@@ -228,6 +231,16 @@ class TestUnlike(unittest.TestCase):
         told = unlike(other=Row(("settle", "w")), row=Row(("set", "f")),
                       device=Device({"w": (("test", "f", (), ()),)}))
         self.assertEqual(told[:2], ("free", 0))
+
+    def test_one_part_of_the_states(self):
+        # The gate e stays open, so that no end is quiet.
+        device = Device({"w": (("test", "f", (), ()),), "v": (USE,)}, {"g": ("d", (USE,)), "h": ("e", (USE,))},
+                        {"c": ("b", (USE,))}, armed=("v",))
+        for step in (("drain", "d"), ("drain", "b"), ("set", "f"), ("settle", "v"), ("cancel", "v"), ("bar", "v")):
+            row = Row(("close", "d"), ("close", "b"))
+            told = unlike(device, row, row + (step,))
+            self.assertEqual(told is None, step[0] == "bar")
+            self.check(device, row, row + (step,), told)
 
     def test_only_whether_it_is_quiet(self):
         device = Device({"w": (USE,)}, {"g": ("d", (USE,))})

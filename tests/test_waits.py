@@ -27,11 +27,16 @@ CROSSED_ROW = Row(("halt", "v"), ("halt", "w"))
 CROWD = Device({"w": (USE,)}, crowds={"c": ("d", (USE, ("start", "w")))})
 # A guest whom the row keeps from its lock
 KEPT = Device({"w": (USE,)}, {"g": ("d", (("take", "l"), ("give", "l")))})
+# Only runs in which v is armed again and again, and never begins, stay among the states in which the flag is clear.
+CALLED = Device({"v": (("set", "f"),),
+                 "w": (("test", "f", (USE,), (("choose", (("start", "v"),), ()), ("cancel", "v"), ("start", "w"))),)},
+                armed=("w",))
 KEPT_ROW = Row(("close", "d"), ("take", "l"), ("drain", "d"), ("give", "l"))
 
 WAITING = [
     ("dead", CROSSED, CROSSED_ROW), ("dead", KEPT, KEPT_ROW), ("round", SELF, SETTLE), ("round", CROWD, SETTLE),
     ("round", CROWD, Row(("drain", "d"))), (None, CROWD, Row(("close", "d"), ("drain", "d"), ("bar", "w")) + SETTLE),
+    ("round", CALLED, SETTLE),
     (None, CROWD, Row(("bar", "w"), ("settle", "w"))), (None, CROWD, Row()), (None, SELF, Row(("halt", "w"))),
     (None, KEPT, Row(("close", "d"), ("drain", "d"), ("take", "l"), ("give", "l"))),
     # The work for which the row waits is at rest again and again.
@@ -115,6 +120,11 @@ class TestIsDead(unittest.TestCase):
         for one, two, done, dead in ((1, 1, 0, True), (1, 0, 0, False), (2, 0, 0, False), (None, 0, 0, False),
                                      (None, 0, 1, False), (None, None, 1, False)):
             self.assertIs(is_dead(CROSSED, CROSSED_ROW, (((False, one), (False, two)), (), (), (), done)), dead)
+
+    def test_no_round(self):
+        dead = (((False, 1), (False, 1)), (), (), (), 0)
+        self.assertIs(is_dead(CROSSED, CROSSED_ROW, dead), True)
+        self.assertIs(is_round(CROSSED, CROSSED_ROW, dead, []), False)
 
     def test_the_row_itself(self):
         self.assertIs(is_dead(KEPT, KEPT_ROW, ((OFF,), (), (0,), (), 2)), True)
