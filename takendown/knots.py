@@ -42,18 +42,23 @@ def way_to(within, start, end):
     came = {start: None}
     level = [start]
     while end not in came:
-        further = []
-        for code in level:
-            for link in within[code]:
-                if link[3] not in came:
-                    came[link[3]] = (code, link)
-                    further.append(link[3])
-        level = further
+        level = gone_on(within, level, came)
     found = []
     while came[end] is not None:
         end, link = came[end]
         found.append(link)
     return found[::-1]
+
+
+def gone_on(within, level, came):
+    """Return the list of the codes to which links lead from some first, and tell in came by which link each is."""
+    found = []
+    for code in level:
+        for link in within[code]:
+            if link[3] not in came:
+                came[link[3]] = (code, link)
+                found.append(link[3])
+    return found
 
 
 def round_of(links, knot, start):

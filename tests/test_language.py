@@ -22,6 +22,8 @@ VALUE_METHODS = set(
     "join keys ljust lower lstrip partition pop remove replace reverse rfind rjust rpartition rsplit rstrip setdefault "
     "split splitlines startswith strip update upper values zfill bit_length add discard".split())
 
+MODIFYING = set("append clear extend insert pop remove reverse setdefault sort update add discard".split())
+
 CLASS_METHODS = set(
     "__init__ __eq__ __len__ __enter__ __exit__ __call__ __iter__ __add__ __radd__ __contains__ __getitem__ "
     "__setitem__".split())
@@ -118,6 +120,68 @@ def own_methods():
             if isinstance(function, ast.FunctionDef)}
 
 
+def alike_names(function):
+    """Return the dict from each variable of a function to the set of those that may be given the same list."""
+    groups = {}
+    for node in ast.walk(function):
+        if isinstance(node, ast.Assign):
+            pairs = [pair for target in node.targets for pair in name_pairs(target, node.value)]
+            for one, other in pairs:
+                joint = groups.get(one, {one}) | groups.get(other, {other})
+                groups.update({name: joint for name in joint})
+    return groups
+
+
+def name_pairs(target, value):
+    """Return the list of the pairs of names of which an assignment gives one what the other has."""
+    if isinstance(target, ast.Tuple) and isinstance(value, ast.Tuple):
+        return [pair for one, other in zip(target.elts, value.elts) for pair in name_pairs(one, other)]
+    if isinstance(value, ast.IfExp):
+        return name_pairs(target, value.body) + name_pairs(target, value.orelse)
+    if isinstance(value, ast.BoolOp):
+        return [pair for one in value.values for pair in name_pairs(target, one)]
+    both = isinstance(target, ast.Name) and isinstance(value, ast.Name)
+    return [(target.id, value.id)] if both else []
+
+
+def walked(head):
+    """Return the texts of what the head of a loop iterates over."""
+    if isinstance(head, ast.Call) and isinstance(head.func, ast.Name):
+        if head.func.id in ("enumerate", "zip", "reversed"):
+            return [text for one in head.args for text in walked(one)]
+        return []
+    if isinstance(head, ast.Call) and head.func.attr in ("items", "keys", "values"):
+        return walked(head.func.value)
+    if isinstance(head, (ast.IfExp, ast.BoolOp)):
+        return [text for one in ast.iter_child_nodes(head) if isinstance(one, ast.expr) for text in walked(one)]
+    return [ast.unparse(head)] if isinstance(head, (ast.Name, ast.Attribute, ast.Subscript)) else []
+
+
+def modified(rows):
+    """Return the set of the texts of what some rows of code change in place."""
+    found = set()
+    for node in [one for row in rows for one in ast.walk(row)]:
+        if isinstance(node, ast.Call) and isinstance(node.func, ast.Attribute) and node.func.attr in MODIFYING:
+            found.add(ast.unparse(node.func.value))
+        elif isinstance(node, ast.Subscript) and isinstance(node.ctx, (ast.Store, ast.Del)):
+            found.add(ast.unparse(node.value))
+        elif isinstance(node, ast.AugAssign):
+            found.add(ast.unparse(node.target))
+    return found
+
+
+def changed_loops(function):
+    """Return the rows of the loops of a function that change what they walk, by any of its names."""
+    groups = alike_names(function)
+    found = []
+    for node in ast.walk(function):
+        if isinstance(node, ast.For):
+            for text in walked(node.iter):
+                if groups.get(text, {text}) & modified(node.body):
+                    found.append(node.lineno)
+    return found
+
+
 class TestRules(unittest.TestCase):
     def test_files(self):
         self.assertEqual([path.name for path in sorted(PACKAGE.iterdir()) if path.name != "__pycache__"],
@@ -210,6 +274,21 @@ class TestRules(unittest.TestCase):
                     self.assertIn(node.func.attr, methods, (name, node.lineno))
                 elif node.func.id in ("any", "all", "sum", "min", "max", "sorted"):
                     self.assertFalse([one for one in node.args if isinstance(one, ast.GeneratorExp)], (name, node.lineno))
+
+    def test_loops_do_not_change_what_they_walk(self):
+        for name, _, tree in trees():
+            for function in functions(tree):
+                self.assertEqual(changed_loops(function), [], name)
+
+    def test_changed_loops_are_found(self):
+        for text in ("for x in xs:\n  ys.append(x)\n xs = ys", "for x in xs:\n  xs.pop()", "xs = ys = zs\n for x in ys:\n  del zs[0]",
+                     "for k, v in d.items():\n  d[v] = k", "for x in a if a else b:\n  b += [x]",
+                     "for x in self.xs:\n  self.xs.append(x)", "xs, ys = ys, zs\n for x in xs:\n  zs.append(x)"):
+            function = ast.parse("def f():\n " + text).body[0]
+            self.assertNotEqual(changed_loops(function), [], text)
+        for text in ("for x in xs:\n  ys.append(x)", "for x in list(xs):\n  xs.pop()", "for x in xs:\n  pass\n xs.append(x)"):
+            function = ast.parse("def f():\n " + text).body[0]
+            self.assertEqual(changed_loops(function), [], text)
 
     def test_properties(self):
         found = {True: set(), False: set()}
