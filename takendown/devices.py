@@ -4,6 +4,7 @@ from takendown.bodies import are_alike
 from takendown.errors import InvalidDevice, InvalidItem, UnknownName
 from takendown.items import is_name, may_start
 from takendown.schemes import Scheme
+from takendown.shelves import Shelf
 from takendown.threads import Crowd, Guest, Work
 
 MOST_WORKS = 4
@@ -102,6 +103,7 @@ class Device:
         self._armed = tuple(sorted(armed))
         self._flagged = tuple(sorted(flags))
         self._scheme = Scheme(self)
+        self._shelf = Shelf()
 
     @property
     def armed(self):
@@ -169,6 +171,10 @@ class Device:
     def scheme(self):
         """Return how states are written as integers."""
         return self._scheme
+
+    def shelf(self):
+        """Return where what is made for the device is kept."""
+        return self._shelf
 
     def starters(self, work):
         """Return the ascending list of the threads that may start a work."""

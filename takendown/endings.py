@@ -1,17 +1,16 @@
 """Endings: papers that tell why everybody who moves again and again leaves the states in which a row waits."""
 
-from takendown.courses import Course
+from takendown.courses import code_in, course_of
 from takendown.errors import InvalidState
 from takendown.items import is_index, is_name
 from takendown.knots import judged, paper_of_states
 from takendown.links import Links, is_dead_code, is_stuck, parts_within
 from takendown.searches import checked_search
-from takendown.states import has_form, is_torn
 
 
 def ending_of(device, row, *, limit=6000):
     """Return an ending paper for the waiting states of the table of all states, or None if the row waits."""
-    course = Course(device, row)
+    course = course_of(device, row)
     paper = judged(device, course, checked_search(course, limit))[1]
     return None if paper is None else paper_of_states(course, paper)
 
@@ -37,15 +36,8 @@ class Reader:
     """Reads any values that should be states of a device and a row, or places of its crowds."""
 
     def __init__(self, device, row):
-        self.course = Course(device, row)
+        self.course = course_of(device, row)
         self._device = device
-        self._row = row
-
-    def code_for(self, value):
-        """Return the code of any value, None if it is no state."""
-        if not has_form(self._device, self._row, value) or is_torn(self._device, self._row, value):
-            return None
-        return self.course.code_of(value)
 
     def codes_for(self, states):
         """Return the list of the codes of any value that should be a list of states, each once."""
@@ -53,10 +45,7 @@ class Reader:
             raise InvalidState(states)
         found = {}
         for state in states:
-            code = self.code_for(state)
-            if code is None:
-                raise InvalidState(state)
-            found[code] = True
+            found[code_in(self.course, state)] = True
         return list(found)
 
     def is_spot(self, crowd, place):
@@ -68,7 +57,7 @@ def is_paper(reader, links, codes, spent, value):
     """Whether any value is an ending paper for some codes and spent places."""
     if not isinstance(value, list) or not all([is_part(part) for part in value]):
         return False
-    read = [[reader.code_for(state) for state in states] for states, _, _ in value]
+    read = [[reader.course.code_of(state) for state in states] for states, _, _ in value]
     within = links.within(codes, spent)
     number = {}
     for at, part in enumerate(read):

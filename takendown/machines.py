@@ -1,6 +1,6 @@
 """Machines: counted runs that are played, with any number of users."""
 
-from takendown.courses import Course, is_single_move
+from takendown.courses import course_of, is_single_move
 from takendown.errors import InvalidMove, NothingToUndo, UnknownName
 from takendown.items import is_name
 
@@ -14,7 +14,7 @@ class Machine:
     """A device, its row, and the moves made so far."""
 
     def __init__(self, device, row):
-        self._course = Course(device, row)
+        self._course = course_of(device, row)
         self._device = device
         self._row = row
         nobody = {crowd: (0,) * len(device[crowd]) for crowd in device.crowds()}

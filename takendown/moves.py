@@ -1,28 +1,25 @@
 """Moves: what is possible in a state, what is behind it, and runs of moves from the first state on."""
 
-from takendown.courses import Course, is_move
+from takendown.courses import code_in, course_of, is_move
 from takendown.errors import InvalidMove
-from takendown.states import check_state
 
 
 def moves(device, row, state):
     """Return the list of all possible moves of a state."""
-    check_state(device, row, state)
-    course = Course(device, row)
-    return [move for move, _ in course.onward(course.code_of(state))]
+    course = course_of(device, row)
+    return [move for move, _ in course.onward(code_in(course, state))]
 
 
 def after(device, row, state, move):
     """Return the state behind a move."""
-    check_state(device, row, state)
-    course = Course(device, row)
-    return course.state_of(code_behind(course, course.code_of(state), move))
+    course = course_of(device, row)
+    return course.state_of(code_behind(course, code_in(course, state), move))
 
 
 def is_run(device, row, value):
     """Return whether any value is a run."""
     try:
-        codes_along(Course(device, row), value)
+        codes_along(course_of(device, row), value)
     except InvalidMove:
         return False
     return True
@@ -30,7 +27,7 @@ def is_run(device, row, value):
 
 def end_of(device, row, run):
     """Return the state to which a run leads."""
-    course = Course(device, row)
+    course = course_of(device, row)
     return course.state_of(codes_along(course, run)[-1])
 
 

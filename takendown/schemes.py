@@ -3,6 +3,8 @@
 A move then is a matter of a few bits, so that tables of many states are made in little time.
 """
 
+from takendown.forms import Form
+
 PLACE_BITS = 4
 COUNT_BITS = 4
 DONE_BITS = 4
@@ -157,13 +159,20 @@ def rules_for_counts(change, fields):
     return [(move, mask, want, fields[here], ~0, put, ahead - here)]
 
 
+def first_code(device, bits, most):
+    """Return the code of the first state."""
+    told = [bits[("flag", flag)] for flag in device.flagged] + [bits[("armed", work)] for work in device.armed]
+    return sum(told) if most is None else sum(told) + bits[("room", "")] * most
+
+
 class Scheme:
     """How the states of a device are written as integers, their codes; counted ones of at most most users.
 
-    bits and fields tell the lowest bit, and all bits, of what is told of it. A rule is a tuple
-    (move, mask, want, some, keep, put, add): of the bits in mask just those in want must be set,
-    and one of those in some, if there are any; then those in keep remain, those in put are set
-    unless they arm a barred work, and add is added.
+    bits and fields tell the lowest bit, and all bits, of what is told of it; form reads and writes
+    states; first is the code of the first state. A rule is a tuple (move, mask, want, some, keep, put, add):
+    of the bits in mask just those in want must be set, and one of those in some, if there are any;
+    then those in keep remain, those in put are set unless they arm a barred work, and add is added.
+    by_move has the rules of each move, of which one fits at most.
     """
 
     def __init__(self, device, most=None):
@@ -181,6 +190,11 @@ class Scheme:
         for name in device.crowds():
             for change in changes_of_crowd(self.bits, device[name]):
                 self.rules.extend(rules_for_sets(change) if most is None else rules_for_counts(change, by_bit))
+        self.by_move = {}
+        for rule in self.rules:
+            self.by_move.setdefault(rule[0], []).append(rule)
+        self.form = Form(device, self.bits, self.fields, most)
+        self.first = first_code(device, self.bits, most)
 
     def inside_bits(self, user):
         """Return all bits that tell where a guest, or the users of a crowd, are inside."""

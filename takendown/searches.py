@@ -76,10 +76,16 @@ class Search:
         return None
 
 
-def are_closed(course, codes):
-    """Whether codes have the first one, none twice, none freed or about to be freed loud, and what is behind each."""
+def is_closed_list(course, value):
+    """Whether any value is a list of states, none twice, that has the first one and what is behind each of them.
+
+    None of them is freed, or about to be freed and not quiet.
+    """
+    if not isinstance(value, list):
+        return False
+    codes = [course.code_of(one) for one in value]
     known = {code: True for code in codes}
-    if len(known) < len(codes) or course.first() not in known:
+    if None in known or len(known) < len(codes) or course.first() not in known:
         return False
     if any([course.is_freed(code) or course.is_loud(code) for code in codes]):
         return False

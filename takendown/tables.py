@@ -1,25 +1,19 @@
 """Tables: all states to which runs lead before the free, and the loud runs among them."""
 
-from takendown.courses import Course
+from takendown.courses import code_in, course_of
 from takendown.errors import InvalidState
-from takendown.rows import fits
-from takendown.searches import Search, are_closed, check_limit
-from takendown.states import has_form, is_torn
+from takendown.searches import checked_search, is_closed_list
 
 
 class Table:
     """All states of a device and a row before the free. It never changes."""
 
     def __init__(self, device, row, *, limit=6000):
-        fits(device, row)
-        check_limit(limit)
-        self._device = device
-        self._row = row
-        self._course = Course(device, row)
-        self._search = Search(self._course, limit)
+        self._course = course_of(device, row)
+        self._search = checked_search(self._course, limit)
 
     def __contains__(self, x):
-        return has_form(self._device, self._row, x) and self._course.code_of(x) in self._search
+        return self._course.code_of(x) in self._search
 
     def __len__(self):
         return len(self._search)
@@ -38,9 +32,10 @@ class Table:
 
     def _code_in(self, state):
         """Return the code of any value that should be a state of the table."""
-        if state not in self:
+        code = code_in(self._course, state)
+        if code not in self._search:
             raise InvalidState(state)
-        return self._course.code_of(state)
+        return code
 
     def loud(self):
         """Return a loud run with the fewest moves, or None."""
@@ -54,18 +49,12 @@ class Table:
 
 def is_closed(device, row, value):
     """Return whether any value is a closed list of states, none of them about to be freed and not quiet."""
-    fits(device, row)
-    if not isinstance(value, list):
-        return False
-    if not all([has_form(device, row, one) and not is_torn(device, row, one) for one in value]):
-        return False
-    course = Course(device, row)
-    return are_closed(course, [course.code_of(one) for one in value])
+    return is_closed_list(course_of(device, row), value)
 
 
 def runs(device, row, most):
     """Yield all runs of at most so many moves, none freeing the device amid, the shorter ones first."""
-    course = Course(device, row)
+    course = course_of(device, row)
     level = [([], course.first())]
     length = 0
     while len(level) > 0:

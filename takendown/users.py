@@ -1,12 +1,11 @@
 """Users: states with the numbers of users, and how many of them make a row loud."""
 
-from takendown.courses import Course, occupied
+from takendown.courses import course_of
 from takendown.errors import InvalidNumber, LimitExceeded
 from takendown.items import is_index
 from takendown.moves import codes_along
 from takendown.rows import fits
-from takendown.searches import Search, are_closed, check_limit
-from takendown.states import has_form, is_torn, is_tuple_of
+from takendown.searches import checked_search, is_closed_list
 from takendown.tables import Table
 
 MOST_USERS = 9
@@ -18,45 +17,17 @@ def check_most(value):
         raise InvalidNumber(value)
 
 
-def has_counts(device, most, value):
-    """Whether any value tells of each crowd how many users are at its places, at most most in all."""
-    names = device.crowds()
-    if not is_tuple_of(value, len(names)):
-        return False
-    if not all([are_counts(one, len(device[name]), most) for name, one in zip(names, value)]):
-        return False
-    return sum([sum(one) for one in value]) <= most
-
-
-def are_counts(value, end, most):
-    """Whether any value is a tuple of as many numbers as places, none above most."""
-    return is_tuple_of(value, end) and all([is_index(many, most + 1) for many in value])
-
-
-def is_counted(device, row, most, value):
-    """Whether any value is a counted state of at most most users."""
-    if not is_tuple_of(value, 5) or not has_counts(device, most, value[3]):
-        return False
-    works, flags, guests, crowds, done = value
-    state = (works, flags, guests, occupied(crowds), done)
-    return has_form(device, row, state) and not is_torn(device, row, state)
-
-
 class CountedTable:
     """All counted states of a device and a row before the free, of at most most users. It never changes."""
 
     def __init__(self, device, row, most, *, limit=6000):
         fits(device, row)
         check_most(most)
-        check_limit(limit)
-        self._device = device
-        self._row = row
-        self._users = most
-        self._course = Course(device, row, most)
-        self._search = Search(self._course, limit)
+        self._course = course_of(device, row, most)
+        self._search = checked_search(self._course, limit)
 
     def __contains__(self, x):
-        return is_counted(self._device, self._row, self._users, x) and self._course.code_of(x) in self._search
+        return self._course.code_of(x) in self._search
 
     def __len__(self):
         return len(self._search)
@@ -85,15 +56,12 @@ def is_closed_for(device, row, most, value):
     """Return whether any value is a list of counted states that is closed by all moves of at most most users."""
     fits(device, row)
     check_most(most)
-    if not isinstance(value, list) or not all([is_counted(device, row, most, one) for one in value]):
-        return False
-    course = Course(device, row, most)
-    return are_closed(course, [course.code_of(one) for one in value])
+    return is_closed_list(course_of(device, row, most), value)
 
 
 def counted(device, row, run):
     """Return a counted run for a run of states."""
-    course = Course(device, row)
+    course = course_of(device, row)
     states = [course.state_of(code) for code in codes_along(course, run)]
     amounts = amounts_along(device, run, states)
     users = {}

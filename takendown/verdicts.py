@@ -1,6 +1,6 @@
 """Verdicts: whether a row is loud, waits or is right, with what shows it."""
 
-from takendown.courses import STEP, Course
+from takendown.courses import STEP, course_of
 from takendown.endings import is_ending
 from takendown.errors import InvalidMove
 from takendown.knots import judged, paper_of_states
@@ -12,7 +12,7 @@ from takendown.waits import is_waiting
 
 def verdict(device, row, *, limit=6000):
     """Return loud with a loud run, waits with a run and a round, or right with a table and an ending paper."""
-    course = Course(device, row)
+    course = course_of(device, row)
     search = checked_search(course, limit)
     loud = search.loud()
     if loud is not None:
@@ -25,14 +25,14 @@ def verdict(device, row, *, limit=6000):
 
 def is_right(device, row, *, limit=6000):
     """Return whether a row is neither loud nor waiting."""
-    course = Course(device, row)
+    course = course_of(device, row)
     search = checked_search(course, limit)
     return search.loud() is None and judged(device, course, search)[0] is None
 
 
 def is_verdict(device, row, value):
     """Return whether any value is a verdict of the row, with any papers that show it."""
-    course = Course(device, row)
+    course = course_of(device, row)
     if not isinstance(value, tuple) or len(value) < 2 or not isinstance(value[0], str):
         return False
     if value[0] == "loud":
@@ -55,7 +55,7 @@ def is_loud_run(course, value):
 
 def unlike(device, row, other, *, limit=6000):
     """Return None if two rows lead to the same ends and wait alike, otherwise what one of them alone does."""
-    courses = [Course(device, row), Course(device, other)]
+    courses = [course_of(device, row), course_of(device, other)]
     searches = [checked_search(course, limit) for course in courses]
     ends = [ends_in(course, search) for course, search in zip(courses, searches)]
     for at in range(2):

@@ -1,19 +1,17 @@
 """Waits: dead stands and rounds, in which a row comes to its end never."""
 
-from takendown.courses import Course, is_move
+from takendown.courses import code_in, course_of, is_move
 from takendown.errors import InvalidMove
 from takendown.knots import judged
 from takendown.links import able_in, come_to, is_dead_code, is_stuck, who_moves
 from takendown.moves import codes_along, codes_from
 from takendown.searches import checked_search
-from takendown.states import check_state
 
 
 def movers(device, row, state):
     """Return the list of the movers that can move in a state."""
-    check_state(device, row, state)
-    course = Course(device, row)
-    return able_in(course, course.code_of(state))
+    course = course_of(device, row)
+    return able_in(course, code_in(course, state))
 
 
 def mover_of(move):
@@ -23,22 +21,20 @@ def mover_of(move):
 
 def is_dead(device, row, state):
     """Return whether a state is a dead stand."""
-    check_state(device, row, state)
-    course = Course(device, row)
-    return is_dead_code(course, course.code_of(state))
+    course = course_of(device, row)
+    return is_dead_code(course, code_in(course, state))
 
 
 def waiting_run(device, row, *, limit=6000):
     """Return None if the row does not wait, otherwise a run to a dead stand and [], or a run and a round."""
-    course = Course(device, row)
+    course = course_of(device, row)
     return judged(device, course, checked_search(course, limit))[0]
 
 
 def is_round(device, row, state, value):
     """Return whether any value is a round of a state."""
-    check_state(device, row, state)
-    course = Course(device, row)
-    return is_round_of(device, course, course.code_of(state), value)
+    course = course_of(device, row)
+    return is_round_of(device, course, code_in(course, state), value)
 
 
 def is_round_of(device, course, code, value):
@@ -60,7 +56,7 @@ def is_round_of(device, course, code, value):
 
 def is_waiting(device, row, value):
     """Return whether any value is a tuple of a run that leads to a dead stand and [], or of a run and a round."""
-    course = Course(device, row)
+    course = course_of(device, row)
     if not isinstance(value, tuple) or len(value) != 2:
         return False
     run, around = value
