@@ -181,3 +181,13 @@ class Device:
         if not is_name(work) or work not in self._works:
             raise UnknownName(work)
         return [name for name in sorted(self._threads) if work in may_start(self._threads[name].code)]
+
+
+def codes_of(device, names):
+    """Return the dict from some threads of a device to their items."""
+    return {name: device[name].code for name in names}
+
+
+def gated_codes_of(device, names):
+    """Return the dict from some guests or crowds of a device to their gates and items."""
+    return {name: (device[name].gate, device[name].code) for name in names}

@@ -21,6 +21,11 @@ def check_steps(steps):
             raise InvalidStep(index)
 
 
+def gives_right(steps):
+    """Whether a tuple of steps takes and gives as a row must."""
+    return True not in wrong_locks(steps, ())
+
+
 def steps_in(value):
     """Return the tuple of the steps of a row, or a tuple as it is."""
     if isinstance(value, Row):
@@ -104,12 +109,17 @@ class Row:
 
 def fits(device, row):
     """Raise UnknownName with the name in the first step that the device does not have."""
+    check_names(device, row.steps())
+
+
+def check_names(device, steps):
+    """Raise UnknownName with the name in the first one of some steps that the device does not have."""
     known = {
         "works": device.works(),
         "gates": device.gates(),
         "flags": device.flags(),
         "locks": device.locks(),
     }
-    for word, name in row.steps():
+    for word, name in steps:
         if name not in known[STEP_KINDS[word]]:
             raise UnknownName(name)

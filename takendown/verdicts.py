@@ -2,7 +2,7 @@
 
 from takendown.courses import STEP, course_of
 from takendown.endings import is_ending
-from takendown.errors import InvalidMove
+from takendown.errors import InvalidMove, NotRight
 from takendown.knots import judged, paper_of_states
 from takendown.moves import codes_along
 from takendown.searches import checked_search
@@ -28,6 +28,13 @@ def is_right(device, row, *, limit=6000):
     course = course_of(device, row)
     search = checked_search(course, limit)
     return search.loud() is None and judged(device, course, search)[0] is None
+
+
+def check_right(device, row, limit):
+    """Raise NotRight if a row is not right."""
+    told = verdict(device, row, limit=limit)
+    if told[0] != "right":
+        raise NotRight(told[0], told[1:])
 
 
 def is_verdict(device, row, value):

@@ -53,6 +53,10 @@ INTERFACE = {
     "endings": ({}, "ending_of is_ending parts"),
     "verdicts": ({}, "verdict is_verdict is_right unlike"),
     "shorts": ({}, "arrows lock_pairs lock_order short_paper is_short left_alone"),
+    "stocks": ({}, "rows_of price"),
+    "cheapest": ({}, "cheapest is_floor"),
+    "edits": ({}, "edited edits needless needless_steps"),
+    "keepers": ({"Keeper": "device row answer change take undo history __len__ trial accept within together attempt"}, ""),
 }
 
 SIGNATURES = {
@@ -84,6 +88,14 @@ SIGNATURES = {
     "verdicts.unlike": "(device, row, other, *, limit=6000)", "shorts.arrows": "(device)",
     "shorts.lock_pairs": "(device, row)", "shorts.lock_order": "(device, row)", "shorts.short_paper": "(device, row)",
     "shorts.is_short": "(device, row, value)", "shorts.left_alone": "(device, row, ends, index, work)",
+    "stocks.rows_of": "(stock, longest)", "stocks.price": "(row, *, wait=3, plain=1)",
+    "cheapest.cheapest": "(device, stock, *, wait=3, plain=1, longest=4, limit=6000)",
+    "cheapest.is_floor": "(device, stock, price, floor, *, wait=3, plain=1, longest=4)",
+    "edits.edited": "(device, edit)", "edits.edits": "(device)", "edits.needless": "(device, row, *, limit=6000)",
+    "edits.needless_steps": "(device, row, *, limit=6000)", "keepers.Keeper": "(device, row)",
+    "keepers.Keeper.change": "(self, edit)", "keepers.Keeper.take": "(self, row)",
+    "keepers.Keeper.within": "(self, visitor)", "keepers.Keeper.together": "(self, changes)",
+    "keepers.Keeper.attempt": "(self, visitor)",
 }
 
 
@@ -344,11 +356,12 @@ class TestInterface(unittest.TestCase):
     def test_properties_and_static_methods(self):
         from takendown.bodies import Body
         from takendown.devices import Device
+        from takendown.keepers import Keeper
         from takendown.machines import Machine
         from takendown.rows import Row
         from takendown.threads import Crowd, Gated, Guest, Work
         for kind, names in ((Body, "code size"), (Work, "label"), (Guest, "label"), (Crowd, "label"), (Gated, "gate"),
-                            (Device, "armed flagged"), (Machine, "freed inside most touches")):
+                            (Device, "armed flagged"), (Machine, "freed inside most touches"), (Keeper, "device row answer")):
             for name in names.split():
                 self.assertIsInstance(vars(kind)[name], property)
         for name in ("shut", "locked"):
