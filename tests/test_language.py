@@ -57,6 +57,10 @@ INTERFACE = {
     "cheapest": ({}, "cheapest is_floor"),
     "edits": ({}, "edited edits needless needless_steps"),
     "keepers": ({"Keeper": "device row answer change take undo history __len__ trial accept within together attempt"}, ""),
+    "parts": ({}, "joined merges"),
+    "texts": ({}, "write_device write_row write_body read_device read_row read_body"),
+    "bench": ({"Bench": "__setitem__ __getitem__ drop __contains__ __len__ names keep bound bind ask"}, ""),
+    "console": ({"Console": "bench run"}, ""),
 }
 
 SIGNATURES = {
@@ -95,7 +99,11 @@ SIGNATURES = {
     "edits.needless_steps": "(device, row, *, limit=6000)", "keepers.Keeper": "(device, row)",
     "keepers.Keeper.change": "(self, edit)", "keepers.Keeper.take": "(self, row)",
     "keepers.Keeper.within": "(self, visitor)", "keepers.Keeper.together": "(self, changes)",
-    "keepers.Keeper.attempt": "(self, visitor)",
+    "keepers.Keeper.attempt": "(self, visitor)", "parts.joined": "(device, other)", "parts.merges": "(row, other)",
+    "texts.write_device": "(device)", "texts.write_row": "(row)", "texts.write_body": "(items)",
+    "texts.read_device": "(text)", "texts.read_row": "(text)", "texts.read_body": "(text)", "bench.Bench": "()",
+    "bench.Bench.drop": "(self, name)", "bench.Bench.keep": "(self, name, thing)", "bench.Bench.bind": "(self, bound)",
+    "bench.Bench.ask": "(self, name, other)", "console.Console": "()", "console.Console.run": "(self, command)",
 }
 
 
@@ -231,8 +239,8 @@ class TestRules(unittest.TestCase):
                 if isinstance(node, ast.Compare) and isinstance(node.ops[0], (ast.Is, ast.IsNot)):
                     self.assertIsInstance(node.comparators[0], ast.Constant, (name, node.lineno))
                 if isinstance(node, ast.FunctionDef):
-                    decorators = [one.id for one in node.decorator_list]
-                    self.assertLessEqual(set(decorators), {"property", "staticmethod", "classmethod"})
+                    decorators = {ast.unparse(one) for one in node.decorator_list}
+                    self.assertLessEqual(decorators, {"property", "staticmethod", "classmethod", node.name + ".setter"})
 
     def test_module_level(self):
         for name, _, tree in trees():
@@ -304,15 +312,19 @@ class TestRules(unittest.TestCase):
 
     def test_properties(self):
         found = {True: set(), False: set()}
+        settable = set()
         for _, _, tree in trees():
             for node in ast.walk(tree):
                 if isinstance(node, ast.ClassDef):
                     for one in node.body:
                         if isinstance(one, ast.FunctionDef):
-                            found["property" in [told.id for told in one.decorator_list]].add(one.name)
+                            decorators = [ast.unparse(told) for told in one.decorator_list]
+                            found[bool({"property", one.name + ".setter"} & set(decorators))].add(one.name)
+                            settable.update(one.name for told in decorators if told.endswith(".setter"))
         assigned = {node.attr for _, _, tree in trees() for node in ast.walk(tree)
                     if isinstance(node, ast.Attribute) and isinstance(node.ctx, ast.Store)}
-        self.assertFalse(found[True] & (found[False] | assigned))
+        self.assertFalse(found[True] & found[False])
+        self.assertEqual(found[True] & assigned, settable)
 
     def test_generators(self):
         makers = [node.name for _, _, tree in trees() for node in functions(tree)
@@ -327,7 +339,8 @@ class TestRules(unittest.TestCase):
         for name, _, tree in trees():
             for node in ast.walk(tree):
                 if isinstance(node, ast.ClassDef):
-                    methods = [one.name for one in node.body if isinstance(one, ast.FunctionDef)]
+                    methods = [one.name for one in node.body if isinstance(one, ast.FunctionDef)
+                               and not any(isinstance(told, ast.Attribute) for told in one.decorator_list)]
                     self.assertEqual(len(methods), len(set(methods)), (name, node.name))
                     special = {method for method in methods if method.startswith("__")}
                     self.assertLessEqual(special, CLASS_METHODS, (name, node.name))
@@ -354,14 +367,17 @@ class TestInterface(unittest.TestCase):
             self.assertEqual(str(inspect.signature(thing)), told, path)
 
     def test_properties_and_static_methods(self):
+        from takendown.bench import Bench
         from takendown.bodies import Body
+        from takendown.console import Console
         from takendown.devices import Device
         from takendown.keepers import Keeper
         from takendown.machines import Machine
         from takendown.rows import Row
         from takendown.threads import Crowd, Gated, Guest, Work
         for kind, names in ((Body, "code size"), (Work, "label"), (Guest, "label"), (Crowd, "label"), (Gated, "gate"),
-                            (Device, "armed flagged"), (Machine, "freed inside most touches"), (Keeper, "device row answer")):
+                            (Device, "armed flagged"), (Machine, "freed inside most touches"), (Keeper, "device row answer"),
+                            (Bench, "bound"), (Console, "bench")):
             for name in names.split():
                 self.assertIsInstance(vars(kind)[name], property)
         for name in ("shut", "locked"):
