@@ -4,9 +4,9 @@ from takendown.courses import STEP, course_of
 from takendown.errors import InvalidNumber
 from takendown.forms import is_tuple_of
 from takendown.items import is_step
-from takendown.knots import judged
 from takendown.rows import check_names
-from takendown.searches import Search, check_limit
+from takendown.searches import check_limit
+from takendown.stages import Trail
 from takendown.stocks import check_longest, check_prices, check_stock, cost_of, rows_of
 from takendown.verdicts import is_loud_run
 from takendown.waits import is_waiting
@@ -17,8 +17,9 @@ def cheapest(device, stock, *, wait=3, plain=1, longest=4, limit=6000):
     check_asked(device, stock, wait, plain, longest)
     check_limit(limit)
     floor = []
+    trail = Trail(device, limit)
     for cost, rows in by_price(stock, wait, plain, longest):
-        right, members = told_apart(device, rows, floor, limit)
+        right, members = told_apart(trail, rows, floor)
         if len(right) > 0:
             return (cost, right, floor)
         floor.extend(members)
@@ -41,7 +42,7 @@ def by_price(stock, wait, plain, longest):
     return [(cost, found[cost]) for cost in sorted(found)]
 
 
-def told_apart(device, rows, floor, limit):
+def told_apart(trail, rows, floor):
     """Return the list of the right ones of some rows, and that of members of a floor for those that are not.
 
     Rows that begin as a member of the floor tells, or of the list, are not looked at.
@@ -52,7 +53,7 @@ def told_apart(device, rows, floor, limit):
     for row in rows:
         if begins_so(row, waiting):
             continue
-        member = member_for(device, row, limit)
+        member = trail.failure_of(row)
         if member is None:
             right.append(row)
         else:
@@ -66,21 +67,6 @@ def begins_so(row, known):
     """Whether a dict has the first steps of a row, or all of them, among its keys."""
     steps = tuple(row.steps())
     return any([steps[:many] in known for many in range(len(steps) + 1)])
-
-
-def member_for(device, row, limit):
-    """Return a member of a floor that shows that the row fails, None if it is right.
-
-    A round is looked for first: it stands for all rows that begin as this one up to where it waits.
-    """
-    course = course_of(device, row)
-    search = Search(course, limit)
-    waiting = judged(device, course, search)[0]
-    if waiting is not None:
-        run, around = waiting
-        return (tuple(row.steps()[:run.count(STEP) + 1]), run, around)
-    run = search.loud()
-    return None if run is None else (tuple(row.steps()), run, None)
 
 
 def is_floor(device, stock, price, floor, *, wait=3, plain=1, longest=4):

@@ -86,7 +86,7 @@ class Course:
         inside = sum([scheme.inside_bits(device[name]) for name in device.guests() + device.crowds()])
         works = sum([bits[("armed", work)] + scheme.fields[("place", work)] for work in device.works()])
         self._asked = self._gates | inside | works
-        self._first = scheme.first
+        self._first = scheme.start
 
     def first(self):
         """Return the code of the first state, in which nobody is anywhere, counted or not."""
@@ -125,9 +125,10 @@ class Course:
 
     def may_step(self, code):
         """Return whether the row's step, or the free, is possible."""
-        if self.is_freed(code):
+        done = code >> self._shift
+        if done > self._all_done:
             return False
-        mask, want, _, _ = self._steps[self.done(code)]
+        mask, want, _, _ = self._steps[done]
         return code & mask == want
 
     def behind_step(self, code):

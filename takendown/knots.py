@@ -1,6 +1,6 @@
 """Knots: sets of states in which a fair run can go round for ever, or ending papers that tell there is none."""
 
-from takendown.links import Links, is_dead_code, is_stuck, parts_within
+from takendown.links import Links, is_stuck, parts_within
 
 
 def reason_of(links, part, spent):
@@ -90,10 +90,11 @@ def paper_of_states(course, paper):
 def judged(device, course, search):
     """Return ((run, round), None) if the row waits, otherwise (None, ending paper for the codes of waiting states)."""
     codes = [code for code in search.codes() if is_stuck(course, code)]
-    for code in codes:
-        if is_dead_code(course, code):
-            return ((search.run(code), []), None)
     links = Links(device, course, codes)
+    for code in codes:
+        # Nobody can move: the state is a dead stand.
+        if len(links.able(code)) == 0:
+            return ((search.run(code), []), None)
     paper, knot = untied(links, codes, ())
     if knot is None:
         return (None, paper)

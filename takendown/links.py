@@ -21,8 +21,13 @@ def come_to(device, move):
 
 def able_in(course, code):
     """Return the list of the movers that can move in the state of a code."""
+    return movers_of(course.onward(code))
+
+
+def movers_of(onward):
+    """Return the list of the movers of a list of tuples (move, code behind it)."""
     found = []
-    for move, _ in course.onward(code):
+    for move, _ in onward:
         mover = who_moves(move)
         if mover is not None and mover not in found[-1:]:
             found.append(mover)
@@ -43,11 +48,11 @@ class Links:
     """The links between the states of some codes, each a tuple (move, mover, place come to, code behind it)."""
 
     def __init__(self, device, course, codes):
-        self._able = {code: able_in(course, code) for code in codes}
+        onward = {code: course.onward(code) for code in codes}
+        self._able = {code: movers_of(onward[code]) for code in codes}
         self._links = {
             code: [
-                (move, who_moves(move), come_to(device, move), ahead)
-                for move, ahead in course.onward(code) if ahead in self._able
+                (move, who_moves(move), come_to(device, move), ahead) for move, ahead in onward[code] if ahead in onward
             ]
             for code in codes
         }

@@ -169,7 +169,7 @@ class Scheme:
     """How the states of a device are written as integers, their codes; counted ones of at most most users.
 
     bits and fields tell the lowest bit, and all bits, of what is told of it; form reads and writes
-    states; first is the code of the first state. A rule is a tuple (move, mask, want, some, keep, put, add):
+    states; start is the code of the first state. A rule is a tuple (move, mask, want, some, keep, put, add):
     of the bits in mask just those in want must be set, and one of those in some, if there are any;
     then those in keep remain, those in put are set unless they arm a barred work, and add is added.
     by_move has the rules of each move, of which one fits at most.
@@ -194,7 +194,7 @@ class Scheme:
         for rule in self.rules:
             self.by_move.setdefault(rule[0], []).append(rule)
         self.form = Form(device, self.bits, self.fields, most)
-        self.first = first_code(device, self.bits, most)
+        self.start = first_code(device, self.bits, most)
 
     def inside_bits(self, user):
         """Return all bits that tell where a guest, or the users of a crowd, are inside."""
