@@ -71,9 +71,9 @@ class Bench:
 
     def pair(self, name, other):
         """Return the device and the row that are kept under two names."""
-        if name not in self or not isinstance(self[name], Device):
+        if not isinstance(self[name], Device):
             raise UnknownName(name)
-        if other not in self or not isinstance(self[other], Row):
+        if not isinstance(self[other], Row):
             raise UnknownName(other)
         return (self[name], self[other])
 

@@ -29,7 +29,7 @@ def words_of(command):
 
 def is_count(word, many):
     """Whether a command with some first word may have so many words."""
-    return many == WORD_COUNTS[word] or many > WORD_COUNTS[word] and word in TEXT_WORDS
+    return many >= WORD_COUNTS[word] if word in TEXT_WORDS else many == WORD_COUNTS[word]
 
 
 def answer_of(told):

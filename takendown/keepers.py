@@ -25,7 +25,7 @@ class Keeper:
         # Such a list is never changed: to remember it is to remember how all was.
         self._log = [(None, device, row, word, paper)]
         self._in_trial = False
-        # Whether the innermost trial is accepted as all is now; None if not, so that its end can ask for it.
+        # True if the innermost trial is accepted as all is now, otherwise None. Outside of trials nobody asks for it.
         self._accepted = None
 
     @property
@@ -85,8 +85,7 @@ class Keeper:
         _, _, _, word, paper = self._log[-1]
         if word != "right":
             raise NotRight(word, paper)
-        if self._in_trial:
-            self._accepted = True
+        self._accepted = True
 
     def within(self, visitor):
         """Call a function with the keeper in a trial, and return its result."""

@@ -255,7 +255,9 @@ class TestIsFloor(unittest.TestCase):
             self.check([(steps, [("step",)], None)], False, 0)
         # A loud run of another row, of no row, and of one that is too long
         self.check([((CLOSE,), [("step",)], None)], False, 0)
-        self.check([((TAKE,), [("step",), ("step",)], None)], False, 0, [TAKE, GIVE, HALT], KEPT)
+        for many in (1, 2, 3, 4):
+            self.check([((TAKE,), [("step",)] * many, None)], False, 0, [TAKE, GIVE, HALT], KEPT)
+        self.check([((TAKE, GIVE), [("step",)] * 3, None)], True, 0, [TAKE, GIVE, HALT], KEPT)
         self.check([((HALT, BAR), [("step",)] * 3, None)], True, 0)
         self.check([((HALT, BAR), [("step",)] * 3, None)], False, 0, longest=1)
         self.check([((CANCEL,), [("step",)] * 2, None)], False, 0)

@@ -118,6 +118,7 @@ class TestEdited(unittest.TestCase):
             ("no", "c", 0), ("open", "g", 0), ("maybe", "w", 0), (None, "w", 0), (EqualToAll(), "w", 0), ("test", "w", 0),
             ("unlock",), ("unlock", "m"), ("unlock", "f"), ("unlock", "w"), ("unlock", "l", 0), ("unlock", None),
             ["unlock", "l"], ("unlock", ["l"]), ("unlock", ("l",)), ("unlock", "L"), ("unlock", EqualToAll()),
+            (EqualToAll(), "l"), (EqualToAll(), "v", (USE,)), (EqualToAll(), "w", 1), (["unlock"], "l"),
             ("work",), ("work", "v"), ("work", "v", ()), ("work", "v", [USE]), ("work", "v", USE), ("work", "v", None),
             ("work", "v", (USE,), 0), ["work", "v", (USE,)], ("work", "V", (USE,)), ("work", None, (USE,)), ("work", "", (USE,)),
             ("work", ["v"], (USE,)), ("work", EqualToAll(), (USE,)), ("work", "w", (USE,)), ("work", "g", (USE,)),

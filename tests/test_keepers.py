@@ -389,6 +389,32 @@ class TestTrialsWithinOneAnother(KeeperTest):
                 self.keeper.accept()
         self.check()
 
+    def test_a_trial_that_did_nothing(self):
+        for fails in (False, True):
+            with self.keeper.trial():
+                self.keeper.change(WORK)
+                self.keeper.accept()
+                try:
+                    with self.keeper.trial():
+                        if fails:
+                            raise Boom
+                except Boom:
+                    pass
+                self.keeper.within(lambda given: None)
+                self.keeper.attempt(lambda given: given.accept())
+            self.check(WORK)
+            self.keeper.undo()
+
+    def test_an_accept_around_is_not_one_within(self):
+        with self.keeper.trial():
+            self.keeper.accept()
+            with self.keeper.trial():
+                self.keeper.change(WORK)
+            self.check()
+            self.keeper.change(NO)
+            self.keeper.accept()
+        self.check(NO)
+
     def test_three_levels(self):
         with self.keeper.trial():
             with self.keeper.trial():

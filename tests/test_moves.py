@@ -17,6 +17,7 @@ STRANGE_MOVES = [
     ("begin", None), ("begin", ["w"]), ("enter", "w"), ("enter", "c"), ("come", "g"), ("come", "w"), ("go", "w"),
     ("go", "w", 2), ("go", "w", -1), ("go", "w", None), ("go", "w", "0"), ("go", "c", 0), ("pass", "c", 0, 0),
     ("pass", "c", 0, 0, None), ("pass", "c", 8, 0, False), ("pass", "c", -1, 0, False), ("pass", "w", 0, 0, False),
+    ("begin", "w", []), ("come", "c", {}), ("go", "w", 0, []), ("pass", "c", 0, 0, False, []), ("step", []),
     ("halt", "w"), ("run", "w"), ("test", "on", (), ()), ("step", "step"), "step", b"step", ((("step",),),),
 ]
 

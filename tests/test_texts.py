@@ -38,7 +38,7 @@ NO_BODIES = [
     "( )", "()", "test f () ()", "test f ( )( )", "test f ( ; ) ( )", "test f ( use ; ) ( )", "test f ( ; use ) ( )",
     "test f (  ) ( )", "test f ( ( use ) ) ( )", "test f ( ( ) ) ( )", "test F ( ) ( )", "choose", "choose ( )", "choose f ( ) ( )",
     "choose ( ) ( ) ( )", "choose ( use ) ( uses )", "piece", "piece l", "piece ( use )", "piece l ( use ) ( )", "piece l use",
-    "piece l ( ; )", "piece l ( used )", "halt w", "bar w", "use ( ;", ") (", "test f ) ( ( )", "use , use", "use ; ( use )",
+    "test f ( ) ", "test f  ( )", "choose  ", "piece l ", "test  ( ) ( )", "piece l ( ; )", "piece l ( used )", "halt w", "bar w", "use ( ;", ") (", "test f ) ( ( )", "use , use", "use ; ( use )",
 ]
 
 
