@@ -265,6 +265,38 @@ class TestRules(unittest.TestCase):
                         self.assertIsNone(one.asname, name)
                         self.assertIn(one.name, used, name)
 
+    def test_no_two_files_import_from_each_other(self):
+        wanted = {name[:-3]: {node.module.split(".")[1] for node in ast.walk(tree) if isinstance(node, ast.ImportFrom)}
+                  for name, _, tree in trees()}
+        left = dict(wanted)
+        while left:
+            free = [name for name in left if not wanted[name] & set(left)]
+            self.assertTrue(free, sorted(left))
+            for name in free:
+                del left[name]
+
+    def test_ends_of_withs(self):
+        for name, _, tree in trees():
+            for function in functions(tree):
+                if getattr(function, "name", "") != "__exit__":
+                    continue
+                tests = [node.test for node in ast.walk(function) if isinstance(node, ast.If)]
+                for test in tests:
+                    self.assertRegex(ast.unparse(test), r"^[a-z_.]+ is (not )?None$", name)
+                for node in ast.walk(function):
+                    if isinstance(node, ast.stmt):
+                        self.assertIsInstance(node, (ast.FunctionDef, ast.If, ast.Assign), name)
+                    if isinstance(node, ast.Assign):
+                        self.assertIsInstance(node.targets[0], ast.Attribute, name)
+                        self.assertIsInstance(node.value, (ast.Attribute, ast.Name, ast.Constant), name)
+
+    def test_no_name_is_a_method_and_an_attribute(self):
+        made = {function.name for _, _, tree in trees() for node in ast.walk(tree) if isinstance(node, ast.ClassDef)
+                for function in node.body if isinstance(function, ast.FunctionDef) and not function.decorator_list}
+        stored = {node.attr for _, _, tree in trees() for node in ast.walk(tree)
+                  if isinstance(node, ast.Attribute) and isinstance(node.ctx, ast.Store)}
+        self.assertFalse(made & stored)
+
     def test_names(self):
         for name, _, tree in trees():
             bound = {node.name for node in ast.walk(tree) if isinstance(node, ast.ClassDef)}
