@@ -3,27 +3,19 @@
 from takendown.edits import edited
 from takendown.errors import NothingToUndo, NotRight
 from takendown.rows import Row
-from takendown.verdicts import verdict
+from takendown.verdicts import check_right, verdict
 
 LIMIT = 6000
-
-
-def told_of(device, row):
-    """Return the word of the verdict, and the tuple of what is behind it, () if the row is right."""
-    told = verdict(device, row, limit=LIMIT)
-    return (told[0], () if told[0] == "right" else told[1:])
 
 
 class Keeper:
     """A device and a row, right for it but within trials, with the edits and rows by which they came about."""
 
     def __init__(self, device, row):
-        word, paper = told_of(device, row)
-        if word != "right":
-            raise NotRight(word, paper)
-        # An entry is an edit or a row, the device and the row behind it, and the word and paper of these two.
+        check_right(device, row, LIMIT)
+        # An entry is an edit or a row, the device and the row behind it, and the word of the verdict of these two.
         # Such a list is never changed: to remember it is to remember how all was.
-        self._log = [(None, device, row, word, paper)]
+        self._log = [(None, device, row, "right")]
         self._in_trial = False
         # True if the innermost trial is accepted as all is now, otherwise None. Outside of trials nobody asks for it.
         self._accepted = None
@@ -60,10 +52,10 @@ class Keeper:
 
     def _go_on(self, done, device, row):
         """Go on with the device and the row that come of an edit or a row; outside of trials if it is right."""
-        word, paper = told_of(device, row)
-        if word != "right" and not self._in_trial:
-            raise NotRight(word, paper)
-        self._log = self._log + [(done, device, row, word, paper)]
+        told = verdict(device, row, limit=LIMIT)
+        if told[0] != "right" and not self._in_trial:
+            raise NotRight(told[0], told[1:])
+        self._log = self._log + [(done, device, row, told[0])]
         self._accepted = None
 
     def undo(self):
@@ -82,9 +74,7 @@ class Keeper:
 
     def accept(self):
         """Let what was done in the innermost trial stay."""
-        _, _, _, word, paper = self._log[-1]
-        if word != "right":
-            raise NotRight(word, paper)
+        check_right(self.device, self.row, LIMIT)
         self._accepted = True
 
     def within(self, visitor):

@@ -259,7 +259,11 @@ class TestTrials(KeeperTest):
             self.refused(NotRight, self.keeper.accept, word=word, paper=tuple(paper))
             self.keeper.take(WAITS)
             word, *paper = verdict(DOOR, WAITS)
-            self.refused(NotRight, self.keeper.accept, word=word, paper=tuple(paper))
+            for _ in range(2):
+                # What is told is changed, and told anew.
+                wrong = self.refused(NotRight, self.keeper.accept, word=word, paper=tuple(paper))
+                for one in wrong.paper:
+                    one.clear()
         self.check()
 
     def test_accept_outside_of_trials(self):
